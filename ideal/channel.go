@@ -3,27 +3,8 @@ package ideal
 import (
 	"treadle/api"
 	"treadle/chans"
+	"treadle/sense"
 )
-
-// maxCases is how many cases a select may have.
-const maxCases = api.MaxList / 3
-
-// waiter is by what a channel knows a goroutine that waits: its number, and the case of its select at which it waits (0 of another instruction).
-func waiter(g *goroutine, chosen int) int {
-	return g.number*maxCases + chosen
-}
-
-// oneCase is a case of a select: a send or a receive, by a channel, of a slot.
-type oneCase struct {
-	send          bool
-	channel, slot int
-}
-
-// caseOf is the case of this number of a select.
-func caseOf(ins api.Ins, number int) oneCase {
-	three := ins.List[3*number:]
-	return oneCase{send: three[0] == 0, channel: three[1], slot: three[2]}
-}
 
 // doChannel makes a channel, or does something by one.
 func (t turn) doChannel() int {
@@ -63,7 +44,7 @@ func (t turn) send(channel, slot int) int {
 		t.wait()
 		return fine
 	}
-	switch r := c.Send(waiter(t.g, 0), t.get(slot), true); r.What {
+	switch r := c.Send(sense.Waiter(t.g.number, 0), t.get(slot), true); r.What {
 	case chans.Refused:
 		return api.PanicChan
 	case chans.Waits:
@@ -91,7 +72,7 @@ func (t turn) recv() {
 
 // take receives by a channel. Whose value goes there instead, or comes from there, goes on.
 func (t turn) take(c *chans.Chan) chans.Result {
-	r := c.Recv(waiter(t.g, 0), true)
+	r := c.Recv(sense.Waiter(t.g.number, 0), true)
 	if r.What == chans.Handed {
 		t.wake(r.Who, 0, false)
 	}
@@ -101,7 +82,7 @@ func (t turn) take(c *chans.Chan) chans.Result {
 // receive writes what a recv has received.
 func (f *frame) receive(ins api.Ins, value uint64, closed bool) {
 	f.slots[ins.A] = value
-	f.slots[ins.C] = truth(!closed)
+	f.slots[ins.C] = sense.Truth(!closed)
 }
 
 // close closes a channel, and wakes who waits there.
@@ -122,7 +103,8 @@ func (t turn) close() int {
 
 // wake wakes a goroutine that waits at a channel: its value was taken, or it receives one; or the channel was closed.
 func (d *Ideal) wake(waiter int, value uint64, closed bool) {
-	g, chosen := d.gs[waiter/maxCases], waiter%maxCases
+	number, chosen := sense.Waits(waiter)
+	g := d.gs[number]
 	if g.state != api.GWaits {
 		// It waited at the closed channel by several cases, and goes on by the first of them.
 		return
@@ -138,19 +120,19 @@ func (d *Ideal) wake(waiter int, value uint64, closed bool) {
 	case api.OpSelect:
 		d.leaveCases(g, f, ins)
 		f.slots[ins.A] = uint64(chosen)
-		if c := caseOf(ins, chosen); c.send {
+		if c := sense.CaseOf(ins, chosen); c.Send {
 			g.refused = closed
 		} else {
-			f.slots[c.slot] = value
+			f.slots[c.Slot] = value
 		}
 	}
 }
 
 // leaveCases lets a goroutine wait no more at any case of a select.
 func (d *Ideal) leaveCases(g *goroutine, f *frame, ins api.Ins) {
-	for number := range len(ins.List) / 3 {
-		if word := f.slots[caseOf(ins, number).channel]; word != 0 {
-			d.things[word].channel.Leave(waiter(g, number))
+	for number := range sense.Cases(ins) {
+		if word := f.slots[sense.CaseOf(ins, number).Channel]; word != 0 {
+			d.things[word].channel.Leave(sense.Waiter(g.number, number))
 		}
 	}
 }
@@ -165,10 +147,10 @@ func (t turn) choose() int {
 		t.set(t.A, asWord(-1))
 		return fine
 	}
-	for number := range len(t.List) / 3 {
-		c := caseOf(t.Ins, number)
-		if channel := t.channel(c.channel); channel != nil {
-			channel.Queue(waiter(t.g, number), t.get(c.slot), c.send)
+	for number := range sense.Cases(t.Ins) {
+		c := sense.CaseOf(t.Ins, number)
+		if channel := t.channel(c.Channel); channel != nil {
+			channel.Queue(sense.Waiter(t.g.number, number), t.get(c.Slot), c.Send)
 		}
 	}
 	t.wait()
@@ -178,9 +160,9 @@ func (t turn) choose() int {
 // readyCases are the numbers of the cases of a select that are ready.
 func (t turn) readyCases() []int {
 	var ready []int
-	for number := range len(t.List) / 3 {
-		c := caseOf(t.Ins, number)
-		if channel := t.channel(c.channel); channel != nil && channel.Ready(c.send) {
+	for number := range sense.Cases(t.Ins) {
+		c := sense.CaseOf(t.Ins, number)
+		if channel := t.channel(c.Channel); channel != nil && channel.Ready(c.Send) {
 			ready = append(ready, number)
 		}
 	}
@@ -189,11 +171,11 @@ func (t turn) readyCases() []int {
 
 // takeCase does a case of a select that is ready. Its number is written first: the case may send it, or write over it.
 func (t turn) takeCase(number int) int {
-	c := caseOf(t.Ins, number)
+	c := sense.CaseOf(t.Ins, number)
 	t.set(t.A, uint64(number))
-	if c.send {
-		return t.send(c.channel, c.slot)
+	if c.Send {
+		return t.send(c.Channel, c.Slot)
 	}
-	t.set(c.slot, t.take(t.channel(c.channel)).Value)
+	t.set(c.Slot, t.take(t.channel(c.Channel)).Value)
 	return fine
 }

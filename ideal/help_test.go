@@ -6,129 +6,72 @@ import (
 	"testing"
 
 	"treadle/api"
+	"treadle/draft"
 	"treadle/ideal"
 )
 
 const (
-	num = api.KInt
-	flt = api.KFloat
-	ref = api.KRef
+	num = draft.Num
+	flt = draft.Flt
+	ref = draft.Ref
 
-	least    = math.MinInt
-	greatest = math.MaxInt
-	forEver  = math.MaxInt
+	least    = draft.Least
+	greatest = draft.Greatest
+	forEver  = draft.Greatest
 
 	theNaN = uint64(0x7ff8000000000001)
 )
 
-// The types of the tests' programs.
+// The types and the globals of the tests' programs.
 const (
-	box   = iota // an int
-	node         // an int, a float, a pointer to a node, one to a box, and a channel of int
-	nums         // an array of ints
-	nodes        // an array of pointers to nodes
-	flts         // an array of floats
-	lines        // an array of channels of int
-	ring         // a channel of pointers to rings
-	link         // a pointer to a box, an int, and a float
+	box   = draft.Box
+	node  = draft.Node
+	nums  = draft.Nums
+	nodes = draft.Nodes
+	flts  = draft.Flts
+	lines = draft.Lines
+	ring  = draft.Ring
+	link  = draft.Link
+
+	gNum      = draft.GNum
+	gFlt      = draft.GFlt
+	gNode     = draft.GNode
+	gNodes    = draft.GNodes
+	gLine     = draft.GLine
+	gNodeLine = draft.GNodeLine
 )
 
-// The globals of the tests' programs.
-const (
-	gNum = iota
-	gFlt
-	gNode
-	gNodes
-	gLine
-	gNodeLine
+// What the tests' programs are written with.
+var (
+	ptr      = draft.Ptr
+	line     = draft.Line
+	kinds    = draft.Kinds
+	program  = draft.Program
+	fun      = draft.Fun
+	gives    = draft.Gives
+	do       = draft.Do
+	cons     = draft.Const
+	bits     = draft.Bits
+	makeLine = draft.MakeLine
+	with     = draft.With
+	ret      = draft.Ret
+	sel      = draft.Select
+	selOr    = draft.SelectOr
+	show     = draft.Show
+	stop     = draft.Stop
+	body     = draft.Body
+	the      = draft.The
+	times    = draft.Times
 )
 
-func ptr(t int) api.Kind             { return api.Ptr + api.Kind(t) }
-func line(of api.Kind) api.Kind      { return api.Chan + of }
-func kinds(k ...api.Kind) []api.Kind { return k }
-
-// program is a program of functions, with the tests' types and globals.
-func program(funcs ...api.Func) api.Program {
-	return api.Program{
-		Types: []api.Type{
-			box:   {Fields: kinds(num)},
-			node:  {Fields: kinds(num, flt, ptr(node), ptr(box), line(num))},
-			nums:  {Array: true, Fields: kinds(num)},
-			nodes: {Array: true, Fields: kinds(ptr(node))},
-			flts:  {Array: true, Fields: kinds(flt)},
-			lines: {Array: true, Fields: kinds(line(num))},
-			ring:  {Fields: kinds(line(ptr(ring)))},
-			link:  {Fields: kinds(ptr(box), num, flt)},
-		},
-		Globals: []api.Kind{gNum: num, gFlt: flt, gNode: ptr(node), gNodes: ptr(nodes), gLine: line(num), gNodeLine: line(ptr(node))},
-		Funcs:   funcs,
-	}
-}
-
-// fun is a function without results, with so many parameters.
-func fun(params int, slots []api.Kind, body ...api.Ins) api.Func {
-	return api.Func{Params: params, Slots: slots, Code: body}
-}
-
-// gives is a function with results.
-func gives(params int, slots, results []api.Kind, body ...api.Ins) api.Func {
-	return api.Func{Params: params, Slots: slots, Results: results, Code: body}
-}
-
-// do is an instruction with the numbers A, B, C, as many as are given.
-func do(op int, abc ...int) api.Ins {
-	all := append(slices.Clone(abc), 0, 0, 0)
-	return api.Ins{Op: op, A: all[0], B: all[1], C: all[2]}
-}
-
-// cons is a const of an int.
-func cons(a, n int) api.Ins { return api.Ins{Op: api.OpConst, A: a, Imm: uint64(n)} }
-
-// bits is a const of a float.
-func bits(a int, w uint64) api.Ins { return api.Ins{Op: api.OpConst, A: a, Imm: w} }
-
-// makeLine is a chan.
-func makeLine(a, places int) api.Ins { return api.Ins{Op: api.OpChan, A: a, Imm: uint64(places)} }
-
-// with is a call, a go or a defer of the function f.
-func with(op, f int, slots ...int) api.Ins { return api.Ins{Op: op, A: f, List: slots} }
-
-// ret is a ret of slots.
-func ret(slots ...int) api.Ins { return api.Ins{Op: api.OpRet, List: slots} }
-
-// sel is a select without a default, selOr one with it.
-func sel(a int, threes ...int) api.Ins   { return api.Ins{Op: api.OpSelect, A: a, List: threes} }
-func selOr(a int, threes ...int) api.Ins { return api.Ins{Op: api.OpSelect, A: a, B: 1, List: threes} }
-
-// show is a print, stop an exit.
-func show(a int) api.Ins { return do(api.OpPrint, a) }
-func stop(a int) api.Ins { return do(api.OpExit, a) }
-
-// body is instructions and lists of such, one behind the other.
-func body(parts ...[]api.Ins) []api.Ins { return slices.Concat(parts...) }
-
-// the is a list of instructions.
-func the(list ...api.Ins) []api.Ins { return list }
-
-// times is an instruction so many times.
-func times(n int, ins ...api.Ins) []api.Ins { return slices.Repeat(ins, n) }
-
-// event is an event with an int.
-func event(kind, g, n int) api.Event { return api.Event{Kind: kind, G: g, Value: uint64(n)} }
-
-// prints are events of a goroutine that prints these.
-func prints(g int, list ...int) []api.Event {
-	var events []api.Event
-	for _, n := range list {
-		events = append(events, event(api.EvPrint, g, n))
-	}
-	return events
-}
-
-// then are events, and one more.
-func then(events []api.Event, kind, g, n int) []api.Event {
-	return append(slices.Clone(events), event(kind, g, n))
-}
+// The events that are wanted.
+var (
+	event  = draft.Event
+	prints = draft.Prints
+	then   = draft.Then
+	exits  = draft.Exits
+	panics = draft.Panics
+)
 
 // run is a run, and the test that fails if it does what it mustn't.
 type run struct {

@@ -7,6 +7,7 @@ import (
 	"testing"
 
 	"treadle/api"
+	"treadle/draft"
 	"treadle/ideal"
 	"treadle/verify"
 )
@@ -122,27 +123,6 @@ func TestSlotsOfEachNewFrameAreNought(t *testing.T) {
 	expect(t, "goroutines", begun, then(slices.Repeat(want, 2), api.EvDead, 0, 0))
 }
 
-// spoil changes all that there is in a program.
-func spoil(p api.Program) {
-	for i := range p.Types {
-		clear(p.Types[i].Fields)
-		p.Types[i] = api.Type{}
-	}
-	clear(p.Globals)
-	for i := range p.Funcs {
-		f := &p.Funcs[i]
-		for at := range f.Code {
-			for k := range f.Code[at].List {
-				f.Code[at].List[k] = 31
-			}
-			f.Code[at] = api.Ins{Op: api.OpPanic, A: 31}
-		}
-		clear(f.Slots)
-		clear(f.Results)
-		*f = api.Func{}
-	}
-}
-
 // A program may be changed behind New: the run goes on as if it hadn't been.
 func TestTheProgramIsNotKept(t *testing.T) {
 	p := program(
@@ -151,7 +131,7 @@ func TestTheProgramIsNotKept(t *testing.T) {
 		gives(1, kinds(num, ptr(node), ptr(node)), kinds(num, ptr(node)), do(api.OpNew, 1, node), do(api.OpStore, 1, 0, 0), do(api.OpNew, 2, node), do(api.OpStore, 1, 2, 2), ret(0, 1)),
 		fun(1, kinds(num), show(0), ret()))
 	r := begin(t, p)
-	spoil(p)
+	draft.Spoil(p)
 	r.steps(0, 6)
 	r.next(0, ret(0, 1))
 	r.reach(2, 10)
@@ -164,57 +144,18 @@ func TestTheProgramIsNotKept(t *testing.T) {
 	r.reach(2, 10)
 }
 
-// spare are the items with room behind them, in which others stand.
-func spare[T any](list []T, behind T) []T {
-	long := append(slices.Clone(list), behind, behind, behind)
-	return long[:len(list)]
-}
-
-// roomy is a program whose lists have spare room.
-func roomy(p api.Program) api.Program {
-	for i := range p.Types {
-		p.Types[i].Fields = spare(p.Types[i].Fields, ref)
-	}
-	for i := range p.Funcs {
-		f := &p.Funcs[i]
-		for at := range f.Code {
-			f.Code[at].List = spare(f.Code[at].List, 77)
-		}
-		f.Slots, f.Results, f.Code = spare(f.Slots, 99), spare(f.Results, 99), spare(f.Code, api.Ins{Op: 99})
-	}
-	p.Types, p.Globals, p.Funcs = spare(p.Types, api.Type{}), spare(p.Globals, 99), spare(p.Funcs, api.Func{Params: 99})
-	return p
-}
-
-// whole are all lists of a program, with what stands behind their ends.
-func whole(p api.Program) api.Program {
-	full := api.Program{Types: slices.Clone(p.Types[:cap(p.Types)]), Globals: slices.Clone(p.Globals[:cap(p.Globals)]), Funcs: slices.Clone(p.Funcs[:cap(p.Funcs)])}
-	for i := range full.Types {
-		fields := full.Types[i].Fields
-		full.Types[i].Fields = slices.Clone(fields[:cap(fields)])
-	}
-	for i := range full.Funcs {
-		f := &full.Funcs[i]
-		f.Slots, f.Results, f.Code = slices.Clone(f.Slots[:cap(f.Slots)]), slices.Clone(f.Results[:cap(f.Results)]), slices.Clone(f.Code[:cap(f.Code)])
-		for at := range f.Code {
-			f.Code[at].List = slices.Clone(f.Code[at].List[:cap(f.Code[at].List)])
-		}
-	}
-	return full
-}
-
 func TestTheProgramStays(t *testing.T) {
-	p := roomy(program(
+	p := draft.Roomy(program(
 		fun(0, kinds(num, num, line(num), ptr(node)),
 			cons(0, 4), with(api.OpDefer, 2, 0), with(api.OpCall, 1, 0, 1, 1), makeLine(2, 1), with(api.OpGo, 2, 1),
 			do(api.OpSend, 2, 0), sel(0, 1, 2, 1, 0, 2, 0), do(api.OpNew, 3, node), do(api.OpSet, gNode, 3), show(1), ret()),
 		gives(1, kinds(num), kinds(num, num), do(api.OpAdd, 0, 0, 0), ret(0, 0)),
 		fun(1, kinds(num), show(0), ret())))
-	before := whole(p)
+	before := draft.Whole(p)
 	r := begin(t, p)
 	r.finish()
 	r.shows(then(prints(0, 4, 4), api.EvExit, 0, 0))
-	if !reflect.DeepEqual(before, whole(p)) {
+	if !reflect.DeepEqual(before, draft.Whole(p)) {
 		t.Error("the program is changed, or what stands behind its lists")
 	}
 }

@@ -6,6 +6,7 @@ import (
 	"testing"
 
 	"treadle/api"
+	"treadle/draft"
 	"treadle/flo"
 )
 
@@ -142,7 +143,7 @@ func TestConstAndMove(t *testing.T) {
 		got := outcome(t, kinds(num, num), cons(1, n), do(api.OpMove, 0, 1), show(1), show(0), ret())
 		expect(t, "ints", got, then(prints(0, n, n), api.EvExit, 0, 0))
 	}
-	for _, w := range floats() {
+	for _, w := range draft.Floats() {
 		want := w
 		if isNaN(w) {
 			want = theNaN
@@ -200,22 +201,6 @@ func TestYieldDoesNothing(t *testing.T) {
 	r.frames(1)
 }
 
-// floats are floats' edges, NaNs of each kind too.
-func floats() []uint64 {
-	var list []uint64
-	for _, x := range []float64{
-		0, math.SmallestNonzeroFloat64, 0x1p-1073, 0x0.fffffffffffffp-1022, 0x1p-1022, 0x1.0000000000001p-1022, 0x1p-537, 0x1p-53, 0.1, 0.5, 1, 1.5, 2, 2.5, 2.9, 3, 0x1p52, 0x1p53 - 1, 0x1p53, 0x1p53 + 2, 0x1p62, 0x1.fffffffffffffp62, 0x1p63, 0x1.0000000000001p63, 0x1p64, 1e100, 0x1p511, 0x1p512, 0x1p1023, math.MaxFloat64, math.Inf(1),
-	} {
-		list = append(list, math.Float64bits(x), math.Float64bits(x)|1<<63)
-	}
-	return append(list, nans()...)
-}
-
-// nans are NaNs of both signs, quiet and signalling.
-func nans() []uint64 {
-	return []uint64{theNaN, theNaN | 1<<63, 0x7ff8000000000000, 0xfff8000000000000, 0x7ff0000000000001, 0xfff0000000000001, 0x7ff4000000000000, 0xfff7ffffffffffff, math.MaxUint64, 0x7fffffffffffffff}
-}
-
 // isNaN tells whether bits are a NaN's.
 func isNaN(w uint64) bool { return w&^(1<<63) > 0x7ff<<52 }
 
@@ -238,7 +223,7 @@ func madeOf(t *testing.T, op int, r, k api.Kind, b, c uint64) uint64 {
 }
 
 func TestFloatsAreThoseOfLayer2(t *testing.T) {
-	list := floats()
+	list := draft.Floats()
 	for _, b := range list {
 		for _, c := range list {
 			for op, want := range map[int]uint64{api.OpFAdd: flo.Add(b, c), api.OpFSub: flo.Sub(b, c), api.OpFMul: flo.Mul(b, c), api.OpFDiv: flo.Div(b, c)} {
@@ -279,7 +264,7 @@ func TestFloats(t *testing.T) {
 		}
 	}
 	// A NaN of any kind makes the one NaN.
-	for _, w := range nans() {
+	for _, w := range draft.NaNs() {
 		for op := api.OpFAdd; op <= api.OpFDiv; op++ {
 			if x, y := madeOf(t, op, flt, flt, w, of(1)), madeOf(t, op, flt, flt, of(1), w); x != theNaN || y != theNaN {
 				t.Errorf("op %d of %x: %x, %x", op, w, x, y)
@@ -309,7 +294,7 @@ func TestConversions(t *testing.T) {
 			t.Errorf("itof of %d: %x", n, got)
 		}
 	}
-	for _, w := range floats() {
+	for _, w := range draft.Floats() {
 		if got := madeOf(t, api.OpFtoI, num, flt, w, 0); int(got) != flo.ToInt(w) {
 			t.Errorf("ftoi of %x: %d", w, int(got))
 		}

@@ -7,16 +7,6 @@ import (
 	"treadle/api"
 )
 
-// panics are the events of a goroutine 0 that shows these and then panics.
-func panics(n int, shown ...int) []api.Event {
-	return then(prints(0, shown...), api.EvPanic, 0, n)
-}
-
-// exits are the events of a goroutine 0 that shows these and then ends.
-func exits(shown ...int) []api.Event {
-	return then(prints(0, shown...), api.EvExit, 0, 0)
-}
-
 func TestNewObjectIsNought(t *testing.T) {
 	slots := kinds(ptr(node), num, flt, ptr(node), ptr(box), line(num), ptr(node), ptr(box), num)
 	first := the(

@@ -2,7 +2,7 @@ package ideal
 
 import (
 	"treadle/api"
-	"treadle/flo"
+	"treadle/sense"
 )
 
 // fine is answered by an instruction that is done; otherwise the number is answered with which the machine panics in its place.
@@ -49,12 +49,10 @@ func (t turn) do() int {
 		return t.doObject()
 	case api.OpGetRef, api.OpSetRef:
 		return t.doReference()
-	case api.OpDiv, api.OpMod:
-		return t.divide()
-	case api.OpSet:
-		t.globals[t.A] = t.get(t.B)
+	case api.OpConst, api.OpMove, api.OpGet, api.OpSet, api.OpAddr:
+		t.bring()
 	default:
-		t.set(t.A, t.value())
+		return t.reckon()
 	}
 	return fine
 }
@@ -98,92 +96,30 @@ func (t turn) print() {
 	}
 }
 
-// divide divides, unless it is by 0.
-func (t turn) divide() int {
-	b, c := int64(t.get(t.B)), int64(t.get(t.C))
-	switch {
-	case c == 0:
+// reckon writes into the slot A what the instruction makes of words.
+func (t turn) reckon() int {
+	word, ok := sense.Reckon(t.Op, t.get(t.B), t.get(t.C))
+	if !ok {
 		return api.PanicDiv
-	case t.Op == api.OpDiv:
-		t.set(t.A, uint64(b/c))
-	default:
-		t.set(t.A, uint64(b%c))
 	}
+	t.set(t.A, word)
 	return fine
 }
 
-// value is what an instruction writes into its slot A that does nothing else.
-func (t turn) value() uint64 {
+// bring brings a word into a slot as it stands elsewhere, or into a global.
+func (t turn) bring() {
 	switch t.Op {
 	case api.OpConst:
-		if t.f.Slots[t.A] == api.KFloat {
-			return flo.Canon(t.Imm)
-		}
-		return t.Imm
+		t.set(t.A, sense.Const(t.f.Slots[t.A], t.Imm))
 	case api.OpMove:
-		return t.get(t.B)
+		t.set(t.A, t.get(t.B))
 	case api.OpGet:
-		return t.globals[t.B]
+		t.set(t.A, t.globals[t.B])
+	case api.OpSet:
+		t.globals[t.A] = t.get(t.B)
 	case api.OpAddr:
-		return t.refer(t.B)
-	case api.OpItoF:
-		return flo.FromInt(int(t.get(t.B)))
-	case api.OpFtoI:
-		return uint64(flo.ToInt(t.get(t.B)))
+		t.set(t.A, t.refer(t.B))
 	}
-	return reckon(t.Op, t.get(t.B), t.get(t.C))
-}
-
-// truth is a truth as an int.
-func truth(is bool) uint64 {
-	if is {
-		return 1
-	}
-	return 0
-}
-
-// reckon is what an instruction makes of two words.
-func reckon(op int, b, c uint64) uint64 {
-	switch op {
-	case api.OpAdd:
-		return b + c
-	case api.OpSub:
-		return b - c
-	case api.OpMul:
-		return b * c
-	case api.OpAnd:
-		return b & c
-	case api.OpOr:
-		return b | c
-	case api.OpXor:
-		return b ^ c
-	case api.OpShl:
-		return b << (c % 64)
-	case api.OpShr:
-		return uint64(int64(b) >> (c % 64))
-	case api.OpEq, api.OpPEq:
-		return truth(b == c)
-	case api.OpLess:
-		return truth(int64(b) < int64(c))
-	}
-	return reckonFloats(op, b, c)
-}
-
-// reckonFloats is what an instruction makes of two floats.
-func reckonFloats(op int, b, c uint64) uint64 {
-	switch op {
-	case api.OpFAdd:
-		return flo.Add(b, c)
-	case api.OpFSub:
-		return flo.Sub(b, c)
-	case api.OpFMul:
-		return flo.Mul(b, c)
-	case api.OpFDiv:
-		return flo.Div(b, c)
-	case api.OpFEq:
-		return truth(flo.Equal(b, c))
-	}
-	return truth(flo.Less(b, c))
 }
 
 // doCall begins, ends or unwinds frames, or begins a goroutine.
